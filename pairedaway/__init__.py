@@ -1,0 +1,1 @@
+"""Pairedaway: signs that cancel in pairs."""

@@ -1,0 +1,85 @@
+"""Words, and the machines that tell of which words a kind consists."""
+
+from pairedaway.bounds import MAX_LETTERS, MAX_ROWS
+
+LETTERS = "abcd"
+
+
+def is_number(value, low, high):
+    """Return whether value is an integer from low to high; True and False are none."""
+    return isinstance(value, int) and not isinstance(value, bool) and low <= value <= high
+
+
+def is_row(value, letters, states):
+    """Return whether value is a row of a machine with so many letters and states."""
+    if not isinstance(value, tuple) or len(value) != letters:
+        return False
+    return all([item is None or is_number(item, 0, states - 1) for item in value])
+
+
+def are_rows(value, letters):
+    """Return whether value is the rows of a machine with so many letters."""
+    if not isinstance(value, tuple) or not 1 <= len(value) <= MAX_ROWS:
+        return False
+    return all([is_row(row, letters, len(value)) for row in value])
+
+
+def are_ends(value, states):
+    """Return whether value is the ends of a machine with so many states."""
+    if not isinstance(value, tuple) or len(value) != states:
+        return False
+    return all([isinstance(end, bool) for end in value])
+
+
+def machine_error(value):
+    """Return None for a machine, otherwise the name of its first part that is wrong."""
+    if not isinstance(value, tuple) or len(value) != 3:
+        return "machine"
+    letters, rows, ends = value
+    if not is_number(letters, 1, MAX_LETTERS):
+        return "letters"
+    if not are_rows(rows, letters):
+        return "rows"
+    if not are_ends(ends, len(rows)):
+        return "ends"
+    return None
+
+
+def is_of(machine, word):
+    """Return whether the word is of the machine."""
+    rows, ends = machine[1:]
+    state = 0
+    for letter in word:
+        state = rows[state][LETTERS.index(letter)]
+        if state is None:
+            return False
+    return ends[state]
+
+
+def end_layers(machine, length):
+    """Return a list whose item n tells for each state whether some n letters lead from it to an end."""
+    rows, ends = machine[1:]
+    goals = [[goal for goal in row if goal is not None] for row in rows]
+    layers = [list(ends)]
+    for left in range(length):
+        nearer = layers[left]
+        layers.append([any([nearer[goal] for goal in row]) for row in goals])
+    return layers
+
+
+def each_word(machine, length):
+    """Yield the words of the machine with this length, in Python's order of texts."""
+    rows = machine[1]
+    layers = end_layers(machine, length)
+    # Only beginnings that some word of this length has are ever walked, so that no word is long in coming.
+    ahead = [(0, "")] if layers[length][0] else []
+    while ahead:
+        state, word = ahead.pop()
+        if len(word) == length:
+            yield word
+            continue
+        nearer = layers[length - len(word) - 1]
+        # The last one put here is taken first.
+        for letter, goal in reversed(list(zip(LETTERS, rows[state]))):
+            if goal is not None and nearer[goal]:
+                ahead.append((goal, word + letter))
