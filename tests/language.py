@@ -1,9 +1,11 @@
 """Checks of the rules of LANGUAGE.md, L1 to L28, over the text of the package.
 
-Each check is at least as narrow as what its rule lets the code be told by, and narrower where that is simpler:
-what the program has not needed so far (decorators, annotations, lambdas side by side, `with`, `match`, `finally`,
-generator expressions, stored sets, lists and dicts at module level ..) is not let through at all.
-Widen a check, by the words of its rule, when the program needs more.
+Where that is simpler, a check is narrower than its rule: what the program has not needed so far (decorators,
+annotations, `with`, `match`, `finally`, generator expressions, stored sets, lists and dicts at module level ..) is
+not let through at all. Widen a check, by the words of its rule, when the program needs more.
+
+The checks do not see everything: nothing of the values of a run (keys of dicts, L24; numbers of arguments, L22), and
+of operators (L5) only which there are. What no check sees must still be read for.
 """
 
 import ast
