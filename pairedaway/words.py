@@ -1,6 +1,7 @@
 """Words, and the machines that tell of which words a kind consists."""
 
 from pairedaway.bounds import MAX_LETTERS, MAX_ROWS
+from pairedaway.layers import word_layers
 
 LETTERS = "abcd"
 
@@ -56,30 +57,19 @@ def is_of(machine, word):
     return ends[state]
 
 
-def end_layers(machine, length):
-    """Return a list whose item n tells for each state whether some n letters lead from it to an end."""
-    rows, ends = machine[1:]
-    goals = [[goal for goal in row if goal is not None] for row in rows]
-    layers = [list(ends)]
-    for left in range(length):
-        nearer = layers[left]
-        layers.append([any([nearer[goal] for goal in row]) for row in goals])
-    return layers
-
-
 def each_word(machine, length):
     """Yield the words of the machine with this length, in Python's order of texts."""
-    rows = machine[1]
-    layers = end_layers(machine, length)
+    steps = [[(letter, goal) for letter, goal in zip(LETTERS, row) if goal is not None] for row in machine[1]]
+    layers = word_layers([[goal for letter, goal in row] for row in steps], machine[2], length)
     # Only beginnings that some word of this length has are ever walked, so that no word is long in coming.
-    ahead = [(0, "")] if layers[length][0] else []
+    ahead = [(0, "")] if layers[0] else []
     while ahead:
         state, word = ahead.pop()
         if len(word) == length:
             yield word
             continue
-        nearer = layers[length - len(word) - 1]
+        wanted = layers[len(word) + 1]
         # The last one put here is taken first.
-        for letter, goal in reversed(list(zip(LETTERS, rows[state]))):
-            if goal is not None and nearer[goal]:
+        for letter, goal in steps[state][::-1]:
+            if wanted >> goal & 1:
                 ahead.append((goal, word + letter))

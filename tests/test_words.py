@@ -404,6 +404,28 @@ class EachWordTest(unittest.TestCase):
             self.assertEqual(list(each_word(machine, MAX_LENGTH - 1)), [])
             self.assertEqual(list(each_word(machine, 0)), [""])
 
+    def test_long_chains(self):
+        # The first letter leads on to the last state, each other one back to state 0.
+        for letters in range(1, MAX_LETTERS + 1):
+            rows = tuple((min(state + 1, MAX_ROWS - 1),) + (0,) * (letters - 1) for state in range(MAX_ROWS))
+            machine = (letters, rows, (False,) * (MAX_ROWS - 1) + (True,))
+            with self.subTest(letters=letters), at_once():
+                self.assertEqual(list(each_word(machine, MAX_ROWS - 2)), [])
+                self.assertEqual(list(each_word(machine, MAX_ROWS - 1)), ["a" * (MAX_ROWS - 1)])
+                told = ["a" * MAX_ROWS] + [letter + "a" * (MAX_ROWS - 1) for letter in "bcd"[:letters - 1]]
+                self.assertEqual(list(each_word(machine, MAX_ROWS)), told)
+
+    def test_long_ways_to_and_fro(self):
+        # a leads back and b on, and a word ends where it began or as far from it as may be.
+        last = MAX_ROWS - 1
+        rows = tuple((max(state - 1, 1 - state), min(state + 1, 2 * last - 1 - state)) for state in range(MAX_ROWS))
+        machine = (2, rows, (True,) + (False,) * (last - 1) + (True,))
+        with at_once():
+            self.assertEqual(list(each_word(machine, last - 2)), [])
+            words = [word for word, at in zip(each_word(machine, MAX_LENGTH), range(2))]
+            self.assertEqual(words, ["a" * MAX_LENGTH, "a" * (MAX_LENGTH - 2) + "ba"])
+            self.assertEqual(list(each_word(machine, last)), ["a" + "b" * (last - 1), "b" * last])
+
     def test_two_walks_side_by_side(self):
         told = ["aaa", "aab", "aba", "baa", "bab"]
         self.assertEqual(list(zip(each_word(KIND, 3), each_word(KIND, 3))), [(word, word) for word in told])
