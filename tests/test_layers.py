@@ -5,6 +5,7 @@ import random
 import unittest
 
 from pairedaway.layers import Links, members, set_of, turned, word_layers
+from tests.helpers import any_machine, chain
 
 
 def goals_of(machine):
@@ -20,18 +21,6 @@ def told_layers(goals, ends, length):
     for place in reversed(range(length)):
         ahead[place] = {state for state in ahead[place] if set(goals[state]) & ahead[place + 1]}
     return ahead
-
-
-def any_machine(chance, states, letters):
-    items = [None, *range(states)] if chance.random() < 0.5 else list(range(states))
-    rows = tuple(tuple(chance.choice(items) for letter in range(letters)) for state in range(states))
-    return (letters, rows, tuple(chance.random() < 0.3 for state in range(states)))
-
-
-def chain(states, letters):
-    """The first letter leads to the next state, the others back to state 0."""
-    rows = tuple((min(state + 1, states - 1),) + (0,) * (letters - 1) for state in range(states))
-    return (letters, rows, (False,) * (states - 1) + (True,))
 
 
 def line(states):
@@ -83,7 +72,8 @@ class WordLayersTest(unittest.TestCase):
         chance = random.Random(3)
         for states in (3, 8, 9, 20, 70):
             for letters in (1, 2, 3, 4):
-                self.assert_layers(any_machine(chance, states, letters), (0, 1, 2, 5, 40))
+                for gaps in (0.0, 0.3):
+                    self.assert_layers(any_machine(chance, states, letters, gaps, 0.2), (0, 1, 2, 5, 40))
 
     def test_long_machines(self):
         for machine in (chain(30, 1), chain(30, 4), line(30), line(31)):

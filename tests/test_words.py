@@ -1,51 +1,17 @@
 """Words and machines: machine_error, is_of and each_word."""
 
 import copy
-import itertools
-import signal
 import unittest
-from contextlib import contextmanager
 
 from pairedaway.bounds import MAX_LENGTH, MAX_LETTERS, MAX_ROWS
 from pairedaway.words import each_word, is_of, machine_error
+from tests.helpers import at_once, ring, small_machines, texts
 
 KIND = (2, ((0, 1), (0, None)), (True, True))
 EVERY = (4, ((0, 0, 0, 0),), (True,))
 NO_WORD = (3, ((0, 0, 0),), (False,))
 EVEN = (2, ((1, 1), (0, 0)), (True, False))
 ONE_STATE = ((0,),)
-
-
-def ring(states, letters=1):
-    """A machine of the words whose length is a multiple of the number of states."""
-    rows = tuple(((state + 1) % states,) * letters for state in range(states))
-    return (letters, rows, (True,) + (False,) * (states - 1))
-
-
-@contextmanager
-def at_once(seconds=20):
-    """Fail what takes far longer than anything here may, instead of waiting for it."""
-    def stop(number, frame):
-        raise AssertionError(f"not done within {seconds} seconds")
-
-    before = signal.signal(signal.SIGALRM, stop)
-    signal.alarm(seconds)
-    try:
-        yield
-    finally:
-        signal.alarm(0)
-        signal.signal(signal.SIGALRM, before)
-
-
-def small_machines():
-    """All machines of two letters and two states."""
-    for items in itertools.product((None, 0, 1), repeat=4):
-        for ends in itertools.product((False, True), repeat=2):
-            yield (2, (items[:2], items[2:]), ends)
-
-
-def texts(letters, length):
-    return ["".join(parts) for parts in itertools.product("abcd"[:letters], repeat=length)]
 
 
 def is_read(machine, word):
