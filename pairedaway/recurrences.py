@@ -40,7 +40,7 @@ def shortest_rule(terms, prime):
 
     The numbers are those nearest to 0. (This is the algorithm of Berlekamp and Massey.)
     """
-    rule, length = [1], 0
+    rule = [1]
     # The rule before it was last made longer, what it missed, and how many terms ago.
     before, missed, gap = [1], 1, 1
     for at in range(len(terms)):
@@ -49,14 +49,13 @@ def shortest_rule(terms, prime):
             gap += 1
             continue
         longer = mixed(rule, missed, before, now, gap, prime)
-        if 2 * length <= at:
-            length = at + 1 - length
+        if len(longer) > len(rule):
             before, missed, gap = rule, now, 1
         else:
             gap += 1
         rule = longer
     unit = -inverse(rule[0], prime)
-    numbers = [factor * unit % prime for factor in rule[1:]] + [0] * (length + 1 - len(rule))
+    numbers = [factor * unit % prime for factor in rule[1:]]
     return [number if 2 * number < prime else number - prime for number in numbers]
 
 

@@ -145,9 +145,8 @@ class System:
         states = chosen_states(arrows, classes, firsts)
         nowhere = len(states)
         known = {classes[state]: place for place, state in enumerate(states)}
-        # Where letters lead, but no arrow does, they cancel: its place does not matter.
-        places = [known.get(kind, nowhere) if state in living else nowhere for state, kind in enumerate(classes)]
-        places.append(nowhere)
+        # Where letters lead, but no arrow does, they cancel or what they lead to has no words.
+        places = [known.get(kind, nowhere) for kind in classes] + [nowhere]
         self.size = len(states)
         self.ends = [int(ends[state]) for state in states] + [0]
         self.starts = [known[classes[first]] for first in firsts]

@@ -108,7 +108,8 @@ class RecurrenceTest(unittest.TestCase):
         # The words behind a and those behind b have unlike signs.
         self.assertEqual(recurrence((2, ((1, 1), (1, 1)), (False, True)), "+-"), ())
         self.assertEqual(recurrence((2, ((1, 2), (1, None), (2, None)), (False, True, True)), "+-"), ())
-        self.assertEqual(recurrence((2, ((1, 2), (3, None), (4, None), (3, 3), (4, 4)), (False,) * 3 + (True,) * 2), "-+"), ())
+        late = (2, ((1, 2), (3, None), (4, None), (3, 3), (4, 4)), (False,) * 3 + (True,) * 2)
+        self.assertEqual(recurrence(late, "-+"), ())
 
     def test_only_the_empty_word(self):
         for machine, signs in (((1, ((None,),), (True,)), "-"), (every(2), "-+"), (every(4), "+-+-")):
@@ -116,7 +117,8 @@ class RecurrenceTest(unittest.TestCase):
 
     def test_last_numbers_that_are_0(self):
         for states in (2, 3, 7, 40):
-            only = (1, tuple((state + 1,) for state in range(states - 1)) + ((None,),), (False,) * (states - 1) + (True,))
+            rows = tuple((state + 1,) for state in range(states - 1)) + ((None,),)
+            only = (1, rows, (False,) * (states - 1) + (True,))
             self.assertEqual(recurrence(only, "+"), (0,) * states)
             self.assertEqual(recurrence(chain(states), "+"), (1,) + (0,) * (states - 1))
             self.assertEqual(recurrence(chain(states), "-"), (-1,) + (0,) * (states - 1))

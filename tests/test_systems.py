@@ -43,8 +43,8 @@ class ClassesTest(unittest.TestCase):
     def test_machines_of_any_form(self):
         chance = random.Random(1)
         for _ in range(300):
-            letters = chance.randint(1, 4)
-            machine = any_machine(chance, chance.randint(1, 25), letters, chance.choice((0.0, 0.3, 0.7)), chance.choice((0.1, 0.5)))
+            letters, gaps, ends = chance.randint(1, 4), chance.choice((0.0, 0.3, 0.7)), chance.choice((0.1, 0.5))
+            machine = any_machine(chance, chance.randint(1, 25), letters, gaps, ends)
             signs = two_of(chance, letters)[0]
             self.assert_classes(machine, signs, tuple(chance.randint(0, 1) for letter in range(letters)))
 
@@ -52,7 +52,9 @@ class ClassesTest(unittest.TestCase):
         chance = random.Random(2)
         for states in (3, 20):
             letters, rows, ends = any_machine(chance, states, 3, 0.1)
-            twice = tuple(tuple(None if goal is None else goal + chance.choice((0, states)) for goal in row) for row in rows * 2)
+            twice = tuple(
+                tuple(None if goal is None else goal + chance.choice((0, states)) for goal in row) for row in rows * 2
+            )
             found = classes_of(arrows_of((letters, twice, ends * 2), "+-+", (0, 0, 1), 0), ends * 2)
             self.assertEqual(found[:states], found[states:])
 
@@ -75,6 +77,8 @@ class SystemTest(unittest.TestCase):
     def test_only_what_matters_counts(self):
         self.assertEqual(System([(every(2), "+-", (0, 0))]).size, 1)
         self.assertEqual(System([(chain(9), "+", (0,)), (chain(4), "+", (0,))]).size, 9)
+        cancelled = (2, ((1, 1), (2, 2), (0, 1)), (True, False, True))
+        self.assertEqual([System([(cancelled, signs, (0, 0))]).size for signs in ("+-", "++")], [1, 3])
         self.assertEqual(System([((2, ((0, 1), (2, 2), (1, 1)), (True, False, False)), "++", (0, 0))]).size, 1)
 
     def test_sums(self):
@@ -86,7 +90,9 @@ class SystemTest(unittest.TestCase):
             system = System(parts)
             told = [told_spreads(*part, 6) for part in parts]
             # A number so great that the sums of each weight can be read from it.
-            marks = [[(1 if s == "+" else -1, 40 * (w + 99)) for s, w in zip(signs, weights)] for _, signs, weights in parts]
+            marks = [
+                [(1 if sign == "+" else -1, 40 * (weight + 99)) for sign, weight in zip(part[1], part[2])] for part in parts
+            ]
             sums = system.ends
             for length in range(7):
                 for start, spreads in zip(system.starts, told):

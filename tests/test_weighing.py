@@ -143,7 +143,8 @@ class CountTest(unittest.TestCase):
         self.assertEqual([signed(KIND, "+-", length) for length in range(MAX_LENGTH + 1)], again[:MAX_LENGTH + 1])
 
     def test_no_words(self):
-        for machine in (NO_WORD, (1, ((None,),), (False,)), (2, ((0, 0), (1, 1)), (False, True)), (2, ((1, None), (1, 1)), (False, False))):
+        apart, dead = (2, ((0, 0), (1, 1)), (False, True)), (2, ((1, None), (1, 1)), (False, False))
+        for machine in (NO_WORD, (1, ((None,),), (False,)), apart, dead):
             for length in (0, 1, 2, 200, MAX_LENGTH):
                 self.assertEqual((count(machine, length), signed(machine, "-+-"[:machine[0]], length)), (0, 0))
 
