@@ -113,6 +113,38 @@ def told_spreads(machine, signs, weights, length):
     return found
 
 
+def told_words(machine, most):
+    """All words of the machine with at most so many letters, in the order of words, read letter by letter."""
+    letters, rows, ends = machine
+    found, ahead = [], [("", 0)]
+    for _ in range(most + 1):
+        found.extend(word for word, state in ahead if ends[state])
+        ahead = [
+            (word + letter, goal) for word, state in ahead for letter, goal in zip("abcd", rows[state])
+            if goal is not None
+        ]
+    return found
+
+
+def any_rule(chance, letters, pairs, lengths):
+    """A rule of at most so many pairs, of words with these lengths."""
+    found, taken = [], set()
+    for _ in range(8 * pairs):
+        length = chance.choice(lengths)
+        one, other = ("".join(chance.choice("abcd"[:letters]) for _ in range(length)) for _ in range(2))
+        if len(found) < pairs and one != other and not taken & {one, other}:
+            found.append((one, other))
+            taken |= {one, other}
+    return tuple(found)
+
+
+def is_plain(value):
+    """Whether a value consists of Python's own tuples, texts, integers, bools and None only."""
+    if type(value) is tuple:
+        return all(map(is_plain, value))
+    return value is None or type(value) in (str, int, bool)
+
+
 def two_of(chance, letters):
     """Signs and weights of so many letters."""
     signs = "".join(chance.choice("+-") for letter in range(letters))
