@@ -1,6 +1,6 @@
 """Words, and the machines that tell of which words a kind consists."""
 
-from pairedaway.bounds import MAX_LETTERS, MAX_ROWS
+from pairedaway.bounds import MAX_LENGTH, MAX_LETTERS, MAX_ROWS
 from pairedaway.layers import word_layers
 
 LETTERS = "abcd"
@@ -9,6 +9,13 @@ LETTERS = "abcd"
 def is_number(value, low, high):
     """Return whether value is an integer from low to high; True and False are none."""
     return isinstance(value, int) and not isinstance(value, bool) and low <= value <= high
+
+
+def is_word(letters, value):
+    """Return whether value is a word of so many letters that is not too long."""
+    if not isinstance(value, str) or len(value) > MAX_LENGTH:
+        return False
+    return all([letter in LETTERS[:letters] for letter in value])
 
 
 def is_row(value, letters, states):

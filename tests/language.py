@@ -1,8 +1,8 @@
 """Checks of the rules of LANGUAGE.md, L1 to L28, over the text of the package.
 
 Where that is simpler, a check is narrower than its rule: what the program has not needed so far (decorators,
-annotations, `with`, `match`, `finally`, generator expressions, stored sets, lists and dicts at module level ..) is
-not let through at all. Widen a check, by the words of its rule, when the program needs more.
+annotations, `with`, `match`, generator expressions, stored sets, lists at module level, dicts there that are more than
+looked up in ..) is not let through at all. Widen a check, by the words of its rule, when the program needs more.
 
 The checks do not see everything: nothing of the values of a run (keys of dicts, L24; numbers of arguments, L22), and
 of operators (L5) only which there are. What no check sees must still be read for.
@@ -43,6 +43,10 @@ BUILTIN_NAMES = {
 DUNDERS = {
     f"__{name}__" for name in
     "init eq repr str len iter lt le gt ge ne add sub mul iadd isub imul contains getitem setitem bool".split()
+}
+CHANGING = {"__iadd__", "__isub__", "__imul__", "__setitem__"}
+OPERATORS = CHANGING | {
+    f"__{name}__" for name in "lt le gt ge ne add sub mul contains getitem bool".split()
 }
 UNUSED = {
     "register", "mro", "elements", "open", "input", "law", "version_info", "with_traceback", "add_note",
@@ -138,6 +142,13 @@ def is_plain(node):
     return isinstance(node, ast.Tuple) and all(is_plain(item) for item in node.elts)
 
 
+def is_table(node, defined):
+    """Whether a node is a dict of plain values and of functions defined so far."""
+    if not isinstance(node, ast.Dict) or not all(key is not None and is_plain(key) for key in node.keys):
+        return False
+    return all(is_plain(item) or isinstance(item, ast.Name) and item.id in defined for item in node.values)
+
+
 def is_whole(node, low, high):
     return isinstance(node, ast.Constant) and type(node.value) is int and low <= node.value <= high
 
@@ -166,10 +177,13 @@ def imports(package):
 
 def module_level(package):
     for file in package:
+        defined = set()
         for at, node in enumerate(file.tree.body):
-            plain = isinstance(node, ast.Assign) and is_plain(node.value) and len(node.targets) == 1
-            plain = plain and isinstance(node.targets[0], ast.Name)
+            plain = isinstance(node, ast.Assign) and len(node.targets) == 1 and isinstance(node.targets[0], ast.Name)
+            plain = plain and (is_plain(node.value) or is_table(node.value, defined))
             code = isinstance(node, (ast.FunctionDef, ast.ClassDef, ast.ImportFrom))
+            if isinstance(node, ast.FunctionDef):
+                defined.add(node.name)
             if not plain and not code and not (at == 0 and is_docstring(node)):
                 yield file, node
 
@@ -203,6 +217,47 @@ def classes(package):
         for method in file.methods():
             if method.name.startswith("__") and method.name not in DUNDERS:
                 yield file, method
+    yield from operators(package)
+
+
+def operators(package):
+    """What L5 asks of operators; narrower in that what they come to may not even change lists of its own."""
+    methods = [(file, node) for file in package for node in file.methods()]
+    functions = {node.name: node for file in package for node in file.each(ast.FunctionDef)}
+    many = {"__setitem__": 3, "__bool__": 1, "__len__": 1, "__str__": 1, "__repr__": 1}
+    found = [node for file, node in methods if node.name in OPERATORS]
+    for file, node in methods:
+        if node.name in OPERATORS and (len(node.args.args) != many.get(node.name, 2) or node.args.defaults):
+            yield file, node
+        quiet = node.name in OPERATORS - CHANGING or node.name in ("__eq__", "__str__", "__repr__", "__len__")
+        if found and quiet and not is_quiet(node, functions):
+            yield file, node
+    if "__getitem__" in [node.name for node in found]:
+        stored = [(file, node.attr, node) for file in package for node in file.each(ast.Attribute)]
+        for file, name, node in stored + [(file, node.name, node) for file, node in methods]:
+            if name == "keys" and not isinstance(node.above, ast.Call):
+                yield file, node
+        for file in package:
+            for call in file.called("reversed"):
+                taken = call.args[0].func.id if isinstance(call.args[0], ast.Call) else ""
+                if taken not in ("list", "tuple", "sorted", "range"):
+                    yield file, call
+
+
+def is_quiet(node, functions):
+    """Whether a function, and all that it calls by name, changes nothing and calls nothing but own functions."""
+    known, ahead = {node.name}, [node]
+    for held in ahead:
+        for below in ast.walk(held):
+            if isinstance(below, (ast.AugAssign, ast.Delete)) or changes_anything(held):
+                return False
+            if isinstance(below, ast.Call) and isinstance(below.func, ast.Attribute) and below.func.attr not in METHODS:
+                return False
+            if isinstance(below, ast.Call) and isinstance(below.func, ast.Name) and below.func.id in functions:
+                if below.func.id not in known:
+                    known.add(below.func.id)
+                    ahead.append(functions[below.func.id])
+    return True
 
 
 def statements(package):
@@ -216,11 +271,38 @@ def statements(package):
             if isinstance(node, ast.Delete):
                 bad = not all(isinstance(goal, ast.Subscript) for goal in node.targets)
             if isinstance(node, ast.Try):
-                bad = bool(node.finalbody)
+                bad = not all(is_simple_row(row) for row in node.finalbody)
             if isinstance(node, ast.Assert):
                 bad = isinstance(node.test, ast.Tuple)
             if bad:
                 yield file, node
+
+
+def is_simple(node):
+    """Whether a node is what L6 Finally calls SIMPLE; sums are not let through here."""
+    if isinstance(node, ast.Attribute):
+        return is_simple(node.value)
+    if isinstance(node, (ast.List, ast.Tuple)):
+        return all(is_simple(item) for item in node.elts)
+    return isinstance(node, (ast.Name, ast.Constant))
+
+
+def is_simple_row(row):
+    """Whether a statement may stand in a `finally`."""
+    if isinstance(row, ast.If):
+        test = row.test
+        asked = isinstance(test, ast.Compare) and len(test.ops) == 1 and isinstance(test.ops[0], (ast.Is, ast.IsNot))
+        asked = asked and isinstance(test.left, (ast.Name, ast.Attribute)) and is_simple(test.left)
+        asked = asked and isinstance(test.comparators[0], ast.Constant) and test.comparators[0].value is None
+        return asked and all(is_simple_row(below) for below in row.body + row.orelse)
+    if not isinstance(row, ast.Assign):
+        return isinstance(row, ast.Pass)
+    goal, value = row.targets[0], row.value
+    goals = goal.elts if isinstance(goal, ast.Tuple) else [goal]
+    if isinstance(goal, ast.Tuple) and not (isinstance(value, ast.Tuple) and len(goals) == len(value.elts)):
+        return False
+    whole = all(isinstance(place, (ast.Name, ast.Attribute)) and is_simple(place) for place in goals)
+    return len(row.targets) == 1 and whole and is_simple(value)
 
 
 def expressions(package):
@@ -288,7 +370,7 @@ def recursion(package):
             for call in ast.walk(node):
                 if isinstance(call, ast.Call) and isinstance(call.func, ast.Name):
                     calls.setdefault(name, set()).add(call.func.id)
-                elif isinstance(call, ast.Call) and isinstance(call.func, ast.Attribute):
+                elif isinstance(call, ast.Call) and isinstance(call.func, ast.Attribute) and call.func.attr != "__init__":
                     calls.setdefault(name, set()).add("." + call.func.attr)
     for name in sorted(places):
         found, ahead = set(), [name]
@@ -349,6 +431,19 @@ def one_binding(package):
         for node in file.each(ast.ClassDef):
             if inside(node):
                 yield file, node
+        tables = {row.targets[0].id for row in file.tree.body if isinstance(getattr(row, "value", None), ast.Dict)}
+        for node in file.each(ast.Name):
+            if node.id in tables and inside(node) and not is_looked_up(node):
+                yield file, node
+
+
+def is_looked_up(node):
+    """Whether a dict at module level is only read here, by an index or by `in`."""
+    above = node.above
+    if isinstance(above, ast.Subscript):
+        called = isinstance(above.above, ast.Call) and above.above.func == above
+        return above.value == node and isinstance(above.ctx, ast.Load) and not called
+    return isinstance(above, ast.Compare) and isinstance(above.ops[-1], (ast.In, ast.NotIn)) and above.left != node
 
 
 def imported_names(package):

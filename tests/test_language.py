@@ -13,6 +13,13 @@ LIMIT = -3
 WORDS = ("a", ("b", None), True)
 
 
+def least():
+    return LIMIT
+
+
+TABLE = {"a": 1, 2: ("b", None), "c": least}
+
+
 class Bad(ValueError):
     """An error."""
 
@@ -30,6 +37,19 @@ class Box:
 
     def __len__(self):
         return len(self.rows)
+
+    def __getitem__(self, at):
+        return self.rows[at]
+
+    def __iter__(self):
+        raise TypeError("a")
+
+    def __setitem__(self, at, worth):
+        self.rows[at] = worth
+
+    def __iadd__(self, other):
+        self.put(other)
+        return self
 
     def put(self, row, *, times=1):
         if times < LIMIT or not isinstance(row, (int, str)):
@@ -51,6 +71,12 @@ def held(rows, text):
         total = table[first]
     except KeyError:
         raise Bad("x")
+    finally:
+        if table is not None:
+            first, rest = rest, first
+        else:
+            rest = None
+    action = TABLE["c"] if "c" in TABLE else least
     while rest:
         rest.pop()
         total += 2 ** 5 if "a" in set(text) else -1
@@ -75,7 +101,9 @@ BAD = {
         "len('a')",
         "if 1:\n    K = 1",
         "K = []",
-        "K = {}",
+        "K = {1: []}",
+        "K = {1: f}\n\n\ndef f():\n    return 1",
+        "K = {1: 1 + 1}",
         "K = len('a')",
         "for x in 'a':\n    K = 1",
     ),
@@ -94,6 +122,14 @@ BAD = {
         "@f\nclass A:\n    K = 1",
         "class A(k=1):\n    K = 1",
         "class A:\n    if 1:\n        K = 1",
+        "class A:\n    def __iadd__(self, other, more):\n        return self",
+        "class A:\n    def __contains__(self, x):\n        self.n = 1\n        return True",
+        "class A:\n    def __contains__(self, x):\n        return f()\n\n\ndef f():\n    n = 1\n    n += 1\n    return n",
+        "class A:\n    def __bool__(self):\n        return self.n()",
+        "class A:\n    def __getitem__(self, at):\n        return 1\n\n    def __iter__(self):\n        raise TypeError('a')"
+        "\n\n\ndef f(a):\n    return list(reversed(a))",
+        "class A:\n    def __getitem__(self, at):\n        return 1\n\n    def __iter__(self):\n        raise TypeError('a')"
+        "\n\n    def keys(self):\n        return 1",
     ),
     "L6": (
         "def f():\n    global K",
@@ -102,6 +138,12 @@ BAD = {
         "def f(a):\n    a[1:] += [1]",
         "def f(a):\n    with a:\n        return 1",
         "def f(a):\n    try:\n        a()\n    finally:\n        return 1",
+        "def f(a):\n    try:\n        a()\n    finally:\n        a[0] = 1",
+        "def f(a):\n    try:\n        a()\n    finally:\n        a.pop()",
+        "def f(a):\n    try:\n        a()\n    finally:\n        a = -1",
+        "def f(a):\n    try:\n        a()\n    finally:\n        a, b = a",
+        "def f(a):\n    try:\n        a()\n    finally:\n        if a:\n            a = 1",
+        "def f(a):\n    try:\n        a()\n    finally:\n        if a is None:\n            a()",
         "def f(a):\n    del a",
         "def f(a):\n    match a:\n        case 1:\n            return 1",
     ),
@@ -166,6 +208,10 @@ BAD = {
         "class A:\n    K = 1\n\n\ndef f(A):\n    return A",
         "def f():\n    class A:\n        K = 1\n    return 1",
         "def f(a):\n    for id in a:\n        g()",
+        "K = {1: 2}\n\n\ndef f():\n    return K",
+        "K = {1: 2}\n\n\ndef f():\n    K[1] = 3",
+        "K = {1: 2}\n\n\ndef f():\n    K.update(1)",
+        "def g():\n    return 1\n\n\nK = {1: g}\n\n\ndef f():\n    return K[1]()",
     ),
     "L16": (
         "from pairedaway.other import missing",
