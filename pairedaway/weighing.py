@@ -1,6 +1,6 @@
 """Signs and weights of words, and the sums of signs of all words of one length."""
 
-from pairedaway.layers import members, word_layers
+from pairedaway.sums import by_layers, signed_sum
 from pairedaway.systems import System, add_up, sign_values
 from pairedaway.words import LETTERS
 
@@ -16,36 +16,14 @@ def weight_of(weights, word):
     return sum([word.count(letter) * weight for letter, weight in zip(LETTERS, weights)])
 
 
-def total(machine, marks, length):
-    """Return the sum over the words of this length of what the marks of the letters make of each."""
-    letters, rows, ends = machine
-    nowhere = len(rows)
-    layers = word_layers([[goal for goal in row if goal is not None] for row in rows], ends, length)
-    if layers[0] == 0:
-        return 0
-    rows = [[nowhere if goal is None else goal for goal in row] for row in rows]
-    known = {}
-    sums = [int(end) for end in ends] + [0]
-    for layer in layers[:length][::-1]:
-        if layer not in known:
-            states = members(layer)
-            known[layer] = (states, [[rows[state][at] for state in states] for at in range(letters)])
-        states, columns = known[layer]
-        found = add_up(columns, marks, sums)
-        sums = [0] * (nowhere + 1)
-        for state, amount in zip(states, found):
-            sums[state] = amount
-    return sums[0]
-
-
 def count(machine, length):
     """Return how many words of this length are of the machine."""
-    return total(machine, [(1, 0)] * machine[0], length)
+    return signed_sum(machine, "+" * machine[0], length)
 
 
 def signed(machine, signs, length):
     """Return the sum of the signs of the words of the machine with this length."""
-    return total(machine, [(sign, 0) for sign in sign_values(signs)], length)
+    return signed_sum(machine, signs, length)
 
 
 def common_divisor(one, other):
@@ -68,6 +46,17 @@ def packed_marks(signs, slots, width):
     return [(sign, slot * width) for sign, slot in zip(sign_values(signs), slots)]
 
 
+def packed_sum(machine, marks, length):
+    """Return the sum over the words of this length of what the marks of the letters make of each."""
+    letters, rows = machine[:2]
+    goals = [[len(rows) if goal is None else goal for goal in row] for row in rows]
+
+    def columns(states):
+        return [[goals[state][at] for state in states] for at in range(letters)]
+
+    return by_layers(machine, length, columns, lambda told, sums: add_up(told, marks, sums))
+
+
 def unpacked(packed, slots, digits):
     """Return the list of the numbers in so many slots, the least slot first, each of so many digits of 16."""
     # With half a slot added to each, none is less than 0, and each has its digits for itself.
@@ -87,7 +76,7 @@ def spread(machine, signs, weights, length):
     slots = [(weight - least) // step for weight in weights]
     # A sum and its sign must fit into a slot.
     digits = words.bit_length() // 4 + 1
-    packed = total(machine, packed_marks(signs, slots, 4 * digits), length)
+    packed = packed_sum(machine, packed_marks(signs, slots, 4 * digits), length)
     sums = unpacked(packed, max(slots) * length + 1, digits)
     return tuple([(least * length + step * slot, found) for slot, found in enumerate(sums) if found])
 
