@@ -82,11 +82,13 @@ def by_squares(machine, values, length):
 
     values has the sign of each letter as a number.
     """
-    ways = [[0] * len(machine[1]) for row in machine[1]]
-    for found, row in zip(ways, machine[1]):
+    ways = []
+    for row in machine[1]:
+        found = [0] * len(machine[1])
         for goal, value in zip(row, values):
             if goal is not None:
                 found[goal] += value
+        ways.append(found)
     sums = [int(end) for end in machine[2]]
     while length:
         if length & 1:
