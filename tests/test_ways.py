@@ -151,6 +151,21 @@ class ErrorTest(unittest.TestCase):
         self.assert_not_right(1, every(2), "+-", right, wrong, "")
         self.assert_not_right(0, every(2), "+-", wrong, wrong, "")
 
+    def test_not_right_though_no_word_with_the_sign_minus_is_left(self):
+        right, wrong = (("a", "b"),), (("ab", "bb"),)
+        self.assertIsNone(minus_left(every(2), "++", right))
+        self.assert_not_right(0, every(2), "++", right, (), "")
+        self.assert_not_right(1, every(2), "++", (), right, "")
+        # By each of the reasons.
+        kind = (2, ((1, 2), (None, None), (None, None)), (True, True, False))
+        self.assertEqual((fault(kind, "+-", right), minus_left(kind, "+-", right)), (("a", "kind"), None))
+        self.assert_not_right(0, kind, "+-", right, (), "")
+        self.assert_not_right(1, kind, "+-", (), right, "")
+        only_aab = (2, ((1, None), (2, None), (None, 3), (None, None)), (False, False, False, True))
+        self.assertEqual((fault(only_aab, "-+", wrong), minus_left(only_aab, "-+", wrong)), (("aab", "back"), None))
+        self.assert_not_right(0, only_aab, "-+", wrong, (), "")
+        self.assert_not_right(1, only_aab, "-+", (), wrong, "")
+
     def test_right_but_a_word_with_the_sign_minus_is_left(self):
         right, minus = (("a", "b"),), (("aa", "ab"), ("ba", "bb"))
         self.assertIsNone(fault(every(2), "+-", minus))

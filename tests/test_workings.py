@@ -103,6 +103,33 @@ class MergersTest(unittest.TestCase):
         self.assertEqual((classes[0], classes[2], many), (classes[1], NOWHERE, 1))
         self.assertEqual(classes_of([[0]], [False]), ([NOWHERE], 0))
 
+    def test_classes_of_any_rows(self):
+        """Rows of many shapes, also such that most states lead to few: against parting until nothing parts."""
+        chance = random.Random(3)
+        for _ in range(400):
+            many, letters = chance.randint(1, 40), chance.randint(1, 2)
+            goals = chance.choice((
+                lambda state: chance.randrange(many), lambda state: chance.randrange(state // 3 + 1),
+                lambda state: chance.choice((max(0, state - 1), state // 8, state // 5)),
+            ))
+            rows = [[goals(state) for letter in range(letters)] for state in range(many)]
+            ends = [chance.random() < chance.choice((0.05, 0.5)) for state in range(many)]
+            classes, found = classes_of(rows, ends)
+            kinds, before = {state: ends[state] for state in range(many)}, 0
+            while len(set(kinds.values())) > before:
+                before = len(set(kinds.values()))
+                kinds = {state: (kinds[state], *(kinds[goal] for goal in rows[state])) for state in range(many)}
+                numbers = {kind: number for number, kind in enumerate(dict.fromkeys(kinds.values()))}
+                kinds = {state: numbers[kind] for state, kind in kinds.items()}
+            living = {state for state in range(many) if ends[state]}
+            while more := {state for state in range(many) if living & set(rows[state])} - living:
+                living |= more
+            self.assertEqual([state for state in range(many) if classes[state] != NOWHERE], sorted(living))
+            pairs = {(classes[state], kinds[state]) for state in living}
+            self.assertEqual(len(pairs), len({kinds[state] for state in living}))
+            self.assertEqual(len(pairs), len({classes[state] for state in living}))
+            self.assertEqual(len(pairs), found)
+
     def test_too_great(self):
         rows = [[min(state + 1, 400)] for state in range(401)]
         self.assertIsNone(merged(rows, [False] * 400 + [True]))
