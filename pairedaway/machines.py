@@ -14,19 +14,18 @@ def walked(one, other, wanted):
     second, others = whole(other)
     wide = len(second)
     moved = [[goal * wide for goal in row] for row in first]
-    places = {0: 0}
-    rows, ahead = [], [0]
-    while ahead:
-        behind = []
-        for pair in ahead:
-            goals = [goal + beside for goal, beside in zip(moved[pair // wide], second[pair % wide])]
-            for goal in goals:
-                if goal not in places:
-                    places[goal] = len(places)
-                    behind.append(goal)
-            rows.append([places[goal] for goal in goals])
-        ahead = behind
-    return rows, [2 * lasts[pair // wide] + others[pair % wide] in wanted for pair in places]
+    pairs, places, rows = [0], {0: 0}, []
+    while len(rows) < len(pairs):
+        state, beside = divmod(pairs[len(rows)], wide)
+        row = []
+        for goal, partner in zip(moved[state], second[beside]):
+            goal += partner
+            if goal not in places:
+                places[goal] = len(pairs)
+                pairs.append(goal)
+            row.append(places[goal])
+        rows.append(row)
+    return rows, [2 * lasts[pair // wide] + others[pair % wide] in wanted for pair in pairs]
 
 
 def together(one, other, wanted):

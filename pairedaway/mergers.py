@@ -2,7 +2,6 @@
 
 from pairedaway.bounds import MAX_ROWS
 from pairedaway.layers import turned
-from pairedaway.systems import reached_from
 
 NOWHERE = -1
 
@@ -44,13 +43,23 @@ def leavers(held, touched, rows, classes):
     return sorted(list(groups.values()), key=len)[:-1]
 
 
-def split_all(touched, held, rows, classes):
-    """Part the classes of the touched states, and return the states that are in another class now."""
+def splits_of(touched, held, rows, classes):
+    """Return for the classes of the touched states which states must leave each, in lists, until there are too many."""
     parts = {}
     for state in touched:
         parts.setdefault(classes[state], []).append(state)
-    # All of these are told before a class is changed, so that those of one class can be compared.
-    splits = [(kind, leavers(held[kind], part, rows, classes)) for kind, part in parts.items()]
+    splits, many = [], len(held)
+    for kind, part in parts.items():
+        groups = leavers(held[kind], part, rows, classes)
+        splits.append((kind, groups))
+        many += len(groups)
+        if many > MAX_ROWS:
+            break
+    return splits
+
+
+def split(splits, held, classes):
+    """Let states leave their classes, those of each list for a new one, and return all that are moved."""
     moved = []
     for kind, groups in splits:
         for group in groups:
@@ -62,24 +71,42 @@ def split_all(touched, held, rows, classes):
     return moved
 
 
+def lengths_to(wanted, sources, most):
+    """Return for each state the length of the shortest word to one of those wanted, or None if it is more than most.
+
+    sources has for each state the list of the states that lead to it.
+    """
+    lengths = [None] * len(sources)
+    ahead, length = wanted, 0
+    while ahead and length <= most:
+        behind = []
+        for state in ahead:
+            if lengths[state] is None:
+                lengths[state] = length
+                behind.extend(sources[state])
+        ahead = behind
+        length += 1
+    return lengths
+
+
 def classes_of(rows, ends):
     """Return for each state the number of its class, NOWHERE if it leads to no end, and how many classes there are.
 
-    If there are more than MAX_ROWS, only so many are told apart.
+    If there are more than MAX_ROWS, only some more than that are told apart.
     """
     sources = turned(rows)
-    living = list(reached_from([state for state, end in enumerate(ends) if end], sources))
-    classes = [NOWHERE] * len(rows)
-    held = []
-    for wanted in (False, True):
-        group = {state: True for state in living if ends[state] == wanted}
-        for state in group:
-            classes[state] = len(held)
-        if group:
-            held.append(group)
-    touched = living
+    # How far the next end is parts the states to begin with.
+    lengths = lengths_to([state for state, end in enumerate(ends) if end], sources, MAX_ROWS)
+    classes = [NOWHERE if length is None else length for length in lengths]
+    touched = [state for state, kind in enumerate(classes) if kind != NOWHERE]
+    held = [{} for kind in range(max(classes) + 1)]
+    for state in touched:
+        held[classes[state]][state] = True
     while touched and len(held) <= MAX_ROWS:
-        moved = split_all(touched, held, rows, classes)
+        # All that is to be parted is told before a class is changed, so that the states of one can be compared.
+        moved = split(splits_of(touched, held, rows, classes), held, classes)
+        if len(held) > MAX_ROWS:
+            break
         touched = list({source: True for state in moved for source in sources[state]})
     return classes, len(held)
 

@@ -1,24 +1,8 @@
 """The shortest words that lead one state of a machine to an end, and another one to none."""
 
 from pairedaway.layers import turned
-from pairedaway.mergers import whole
+from pairedaway.mergers import lengths_to, whole
 from pairedaway.words import LETTERS
-
-
-def lengths_to(wanted, rows):
-    """Return for each state the length of the shortest word to one of those wanted, or None if there is none."""
-    sources = turned(rows)
-    lengths = [None] * len(rows)
-    ahead, length = wanted, 0
-    while ahead:
-        behind = []
-        for state in ahead:
-            if lengths[state] is None:
-                lengths[state] = length
-                behind.extend(sources[state])
-        ahead = behind
-        length += 1
-    return lengths
 
 
 class Partings:
@@ -36,8 +20,9 @@ class Partings:
         self.pairs = [[one * self.wide + other for one, other in zip(row, beside)]
                       for row in self.rows for beside in self.rows]
         parted = [one and not other for one in self.ends for other in self.ends]
-        self.now = [0 if apart else None for apart in parted]
-        self.lengths = lengths_to([pair for pair, apart in enumerate(parted) if apart], self.pairs)
+        self.now = [0 if found else None for found in parted]
+        apart = [pair for pair, found in enumerate(parted) if found]
+        self.lengths = lengths_to(apart, turned(self.pairs), len(parted))
         self.known = {"": list(range(self.wide))}
 
     def goals(self, text):

@@ -433,6 +433,23 @@ class MadeMachinesTest(unittest.TestCase):
                 self.assertEqual(shared + first + second, all_words)
                 self.assertEqual(count(one, length) + count(parts[2], length), count(parts[3], length))
 
+    def test_greatest_results(self):
+        with at_once():
+            found = both(ring(16), ring(25))
+            self.assertEqual([length for length in range(MAX_LENGTH + 1) if count(found, length)], [0, 400])
+            self.assertEqual(signed(found, "-", 400), 1)
+            self.assertEqual(recurrence(found, "-"), (0,) * 399 + (1,))
+            self.assertIsNone(unlike(found, "-", ring(400), "-"))
+            self.assertEqual(unlike(found, "-", ring(200), "-"), 200)
+            found = either(ring(16, 2), ring(25, 2))
+            told = told_signed(found, "+-", 400)
+            self.assertEqual([signed(found, "++", length) for length in (0, 16, 25, 26, 400)],
+                             [1, 2 ** 16, 2 ** 25, 0, 2 ** 400])
+            self.assertEqual([signed(found, "+-", length) for length in (0, 16, 25, 26, 400)],
+                             [told[length] for length in (0, 16, 25, 26, 400)])
+            self.assertEqual(spread(found, "++", (0, 99), 16)[:2], ((0, 1), (99, 16)))
+            self.assertEqual(unlike_spread(found, ("++", (0, 1)), ring(16, 2), ("++", (0, 1))), 25)
+
     def test_smallest_has_the_same_sums(self):
         chance = random.Random(14)
         for _ in range(40):

@@ -12,6 +12,7 @@ from pairedaway.verdicts import fault, fewest_drop, minus_left, unkept
 from pairedaway.weighing import count, signed, spread, unlike, unlike_spread
 from tests.helpers import every, reordered, told_words
 from tests.test_verdicts import SIX, cases, right_cases
+from tests.told_verdicts import told_minus_left
 
 
 class LeftAndChangedTest(unittest.TestCase):
@@ -104,6 +105,7 @@ class TurnedAboutTest(unittest.TestCase):
             exchanged = signs.translate({43: "-", 45: "+"})
             self.assertEqual(fault(kind, exchanged, rule), fault(kind, signs, rule))
             self.assertEqual(fewest_drop(kind, exchanged, rule), fewest_drop(kind, signs, rule))
+            self.assertEqual(minus_left(kind, exchanged, rule), told_minus_left(kind, exchanged, rule))
             for length in range(6):
                 self.assertEqual(signed(kind, exchanged, length), (-1) ** length * signed(kind, signs, length))
 

@@ -4,8 +4,8 @@ import random
 import unittest
 
 from pairedaway.beginnings import LeftWalk, begun_rows
-from pairedaway.mergers import NOWHERE, classes_of, merged, whole
-from pairedaway.partings import Partings, lengths_to
+from pairedaway.mergers import NOWHERE, classes_of, lengths_to, merged, whole
+from pairedaway.partings import Partings
 from pairedaway.rules import change
 from pairedaway.turns import tails_of, texts_up_to, turns_behind
 from tests.helpers import any_machine, any_rule, every, told_words
@@ -64,10 +64,6 @@ class TurnsTest(unittest.TestCase):
 
 
 class PartingsTest(unittest.TestCase):
-    def test_lengths(self):
-        self.assertEqual(lengths_to([2], [[1], [2], [2], [3]]), [2, 1, 0, None])
-        self.assertEqual(lengths_to([], [[0]]), [None])
-
     def test_first_words(self):
         chance = random.Random(2)
         for _ in range(60):
@@ -96,6 +92,12 @@ class MergersTest(unittest.TestCase):
     def test_whole(self):
         machine = (2, ((0, 1), (0, None)), (True, False))
         self.assertEqual(whole(machine), ([[0, 1], [0, 2], [2, 2]], [True, False, False]))
+
+    def test_lengths(self):
+        sources = [[], [0], [1, 2], [3]]
+        self.assertEqual(lengths_to([2], sources, 9), [2, 1, 0, None])
+        self.assertEqual(lengths_to([2], sources, 1), [None, 1, 0, None])
+        self.assertEqual(lengths_to([], [[0]], 1), [None])
 
     def test_classes(self):
         # The first two are alike, the last one leads to no end.
