@@ -45,12 +45,12 @@ def leavers(held, touched, rows, classes):
 
 def splits_of(touched, held, rows, classes):
     """Return for the classes of the touched states which states must leave each, in lists, until there are too many."""
-    parts = {}
+    found = {}
     for state in touched:
-        parts.setdefault(classes[state], []).append(state)
+        found.setdefault(classes[state], []).append(state)
     splits, many = [], len(held)
-    for kind, part in parts.items():
-        groups = leavers(held[kind], part, rows, classes)
+    for kind, states in found.items():
+        groups = leavers(held[kind], states, rows, classes)
         splits.append((kind, groups))
         many += len(groups)
         if many > MAX_ROWS:
@@ -58,7 +58,7 @@ def splits_of(touched, held, rows, classes):
     return splits
 
 
-def split(splits, held, classes):
+def part(splits, held, classes):
     """Let states leave their classes, those of each list for a new one, and return all that are moved."""
     moved = []
     for kind, groups in splits:
@@ -104,7 +104,7 @@ def classes_of(rows, ends):
         held[classes[state]][state] = True
     while touched and len(held) <= MAX_ROWS:
         # All that is to be parted is told before a class is changed, so that the states of one can be compared.
-        moved = split(splits_of(touched, held, rows, classes), held, classes)
+        moved = part(splits_of(touched, held, rows, classes), held, classes)
         if len(held) > MAX_ROWS:
             break
         touched = list({source: True for state in moved for source in sources[state]})

@@ -103,7 +103,7 @@ def choices(many):
     """Return all ascending tuples of numbers less than this one, shorter ones first, those of one length in order."""
     found = [()]
     for number in range(many):
-        found.extend([(*chosen, number) for chosen in found])
+        found = found + [(*chosen, number) for chosen in found]
     return sorted(found, key=lambda chosen: (len(chosen), chosen))
 
 
