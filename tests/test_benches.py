@@ -9,7 +9,7 @@ from pairedaway.benches import Bench, RightBench
 from pairedaway.bounds import BATCH, MAX_EDITS, MAX_LENGTH, MAX_PAIRS
 from pairedaway.consoles import Console
 from pairedaway.errors import (
-    BadEdit, BadEdits, BadLength, BadRule, BadScheme, BadWord, Busy, NoPair, NothingToRedo, NothingToUndo, NoVersion,
+    BadEdit, BadEdits, BadLength, BadRule, BadScheme, BadWord, NoPair, NothingToRedo, NothingToUndo, NoVersion,
     Rejected, TooManyEdits,
 )
 from pairedaway.lefts import left_of
